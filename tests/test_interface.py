@@ -1,0 +1,78 @@
+"""The names of the interface, the files that define them, and the names of their arguments."""
+
+import importlib
+import inspect
+import unittest
+
+from tests.helpers import Case
+
+FUNCTIONS = {
+    "checks": ("is_integer(value)", "is_within(value, least, most)", "is_name(value)", "is_place(value)"),
+    "books": ("classes(*books)",),
+    "least_books": ("rows(book)", "least(book)", "lessened(book)"),
+    "alike_books": ("alike(one, other)", "within(one, other)"),
+    "look_books": ("shows_alike(one, other, value)", "shows_within(one, other, value)",
+                   "shows_lessened(book, value)"),
+    "walks": ("walk(ring, key)", "copies(book, ring, key)", "met(book, ring, key)"),
+    "arcs": ("arcs(book, ring)", "keys_of(book, ring, place)", "loads(book, ring)"),
+    "moves": ("moves(book, one, other)", "keys_moved(book, one, other)", "keys_new(book, one, other)"),
+    "placing": ("best_place(book, ring, name)",),
+    "look_placing": ("shows_best(book, ring, name, value)",),
+    "nested": ("is_nested(quotas)", "room(quotas)", "most_taken(quotas, *names)",
+               "exchange(quotas, ring, change, key)"),
+    "shares": ("shares(book, *names)", "counts(book, *names)"),
+}
+CLASSES = {
+    "verdicts": {"Verdict": ()},
+    "books": {"Book": ("__init__(self, *states, most=3)", "step(self, state, name)", "takes(self, *names)",
+                       "__and__(self, other)", "__eq__(self, other)", "__str__(self)")},
+    "least_books": {"Lessened": ("__init__(self, least, lots, parted)", "__eq__(self, other)")},
+    "alike_books": {"Alike": ("__init__(self, pairs)", "__bool__(self)", "__eq__(self, other)"),
+                    "Unlike": ("__init__(self, word)", "__bool__(self)", "__eq__(self, other)"),
+                    "Within": ("__init__(self, pairs)", "__bool__(self)", "__eq__(self, other)"),
+                    "Beyond": ("__init__(self, word)", "__bool__(self)", "__eq__(self, other)")},
+    "quotas": {"Quotas": ("__init__(self, *pairs, most=3)", "takes(self, *names)", "as_book(self)",
+                          "__add__(self, other)", "__eq__(self, other)", "__str__(self)")},
+    "rings": {"Ring": ("__init__(self, *hosts)", "changed(self, *changes)", "changed_by(self, changes)",
+                       "changes_to(self, other)", "__iter__(self)", "__len__(self)", "__bool__(self)",
+                       "__eq__(self, other)", "__contains__(self, place)", "__getitem__(self, place)",
+                       "__add__(self, host)", "__sub__(self, place)", "__rshift__(self, n)")},
+    "placing": {"Best": ("__init__(self, place, height, floors)", "__eq__(self, other)")},
+    "nested": {"Exchange": ("__init__(self, gone, new, kept)", "__eq__(self, other)")},
+}
+
+
+class Interface(Case):
+    def test_functions(self):
+        for module, told in FUNCTIONS.items():
+            names = importlib.import_module(f"stayopen.{module}")
+            for line in told:
+                function = getattr(names, line.split("(")[0])
+                self.assertEqual(function.__module__, f"stayopen.{module}")
+                self.assertEqual(function.__name__ + str(inspect.signature(function)), line)
+
+    def test_classes(self):
+        for module, told in CLASSES.items():
+            names = importlib.import_module(f"stayopen.{module}")
+            for name, lines in told.items():
+                made = getattr(names, name)
+                self.assertEqual(made.__module__, f"stayopen.{module}")
+                for line in lines:
+                    method = vars(made)[line.split("(")[0]]
+                    self.assertEqual(method.__name__ + str(inspect.signature(method)), line)
+
+    def test_properties_and_methods_of_classes(self):
+        books = importlib.import_module("stayopen.books")
+        for name in ("states", "most", "names", "room"):
+            self.assertIs(type(vars(books.Book)[name]), property)
+        quotas = importlib.import_module("stayopen.quotas")
+        rings = importlib.import_module("stayopen.rings")
+        for made in (books.Book, quotas.Quotas):
+            self.assertIs(type(vars(made)["from_text"]), classmethod)
+            self.assertEqual(str(inspect.signature(made.from_text)), "(text)")
+        self.assertIs(type(vars(rings.Ring)["of"]), staticmethod)
+        self.assertEqual(str(inspect.signature(rings.Ring.of)), "(hosts)")
+
+
+if __name__ == "__main__":
+    unittest.main()
