@@ -72,7 +72,8 @@ class Book:
         if len(names) > MOST_NAMES + 1:
             raise BadBook("names")
         states = common_states(self.states, other.states, names)
-        return Book(*states, most=min(self._most, other.most))
+        most = min(self._most, other.most)
+        return Book(*states, most=most)
 
     def __eq__(self, other):
         if not isinstance(other, Book):

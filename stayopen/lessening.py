@@ -24,8 +24,8 @@ def least_of(graph, names, free, room):
     numbers = {order[at]: at for at in range(len(order))}
     states = [{key: numbers.get(told[lot][key]) for key in told[lot]} for lot in order]
     # The states tell the stop; most must only not stop a walk ahead of them.
-    book = Book(*states, most=max(room, 1))
-    return (book, tuple([numbers[lot] for lot in lots]))
+    most = max(room, 1)
+    return (Book(*states, most=most), tuple([numbers[lot] for lot in lots]))
 
 
 def alike_lots(graph):

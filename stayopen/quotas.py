@@ -56,7 +56,8 @@ class Quotas:
         ours = widened(self.pairs, self.names, other.names)
         theirs = widened(other.pairs, other.names, self.names)
         pairs = [*ours, *theirs]
-        return Quotas(*pairs, most=min(self.most, other.most))
+        most = min(self.most, other.most)
+        return Quotas(*pairs, most=most)
 
     def __eq__(self, other):
         if not isinstance(other, Quotas):

@@ -15,7 +15,7 @@ LAST = 999999999
 
 def some_rings():
     rings = [Ring(), Ring((0, "a")), Ring((LAST, "a")), Ring((0, "a"), (LAST, "b")), Ring((0, "a"), (1, "b"), (2, "a")),
-             Ring((LAST - 1, "a"), (LAST, "b")), Ring((5, "b"))]
+             Ring((LAST - 1, "a"), (LAST, "b")), Ring((5, "b"), (LAST - 1, "a")), Ring((5, "b"))]
     for seed in range(12):
         rings.append(Ring(*[((k * k * 7919 * (seed + 3)) % (LAST + 1), "abc"[(k + seed) % 3]) for k in range(1, 3 + seed)]))
     return rings

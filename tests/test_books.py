@@ -149,6 +149,8 @@ class Both(Case):
         ring64 = Book(*[{"": (k + 1) % 64} for k in range(64)])
         self.assertEqual(len((ring9 & ring7).states), 63)
         self.assertEqual(len((ring64 & ring8).states), 64)
+        ring5, ring13 = (Book(*[{"": (k + 1) % many} for k in range(many)]) for many in (5, 13))
+        self.assertRaisesJust(TooMany("states", 64), lambda: ring13 & ring5)
         self.assertRaisesJust(TooMany("states", 64), lambda: ring9 & ring8)
 
     def test_errors(self):
@@ -238,6 +240,13 @@ class Texts(Case):
         for at in range(len(words)):
             for wrong in ("", "?", "A", "00", "-1", "book2", "a\n", "toolongname", "+1", "1_0"):
                 text = " ".join([*words[:at], wrong, *words[at + 1:]])
+                self.assertRaisesJust(BadText(0, at), Book.from_text, text)
+
+    def test_a_word_too_many_at_each_place(self):
+        words = "book 3 : a 1 , b - , * 0 / .".split(" ")
+        for at in range(len(words) + 1):
+            for wrong in ("", "?", "01", "A"):
+                text = " ".join([*words[:at], wrong, *words[at:]])
                 self.assertRaisesJust(BadText(0, at), Book.from_text, text)
 
     def test_words_that_cannot_stand(self):

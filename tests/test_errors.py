@@ -33,11 +33,15 @@ class Errors(Case):
                 self.assertSame(vars(made(**wanted)), wanted)
 
     def test_what_is_done_to_an_argument_changes_no_error(self):
-        value = [1, {"a": [2]}]
-        error = errors.BadName(value)
-        value[1]["a"].append(3)
-        value.append(4)
-        self.assertSame(error.value, [1, {"a": [2]}])
+        for name, parameters in PARAMETERS.items():
+            for at, parameter in enumerate(parameters):
+                value = [1, ({"a": [2]},)]
+                values = [0] * len(parameters)
+                values[at] = value
+                error = getattr(errors, name)(*values)
+                value[1][0]["a"].append(3)
+                value.append(4)
+                self.assertSame(getattr(error, parameter), [1, ({"a": [2]},)])
 
     def test_they_are_caught_as_value_errors(self):
         with self.assertRaises(ValueError):

@@ -60,6 +60,15 @@ class LooksAlike(Case):
         self.assertFalse(shows_alike(PLAIN, PLAIN, Alike((START, ((0, True), (0, 1)), ((0, 2), (0, 2))))))
         self.assertFalse(shows_alike(PLAIN, PLAIN, Alike((((0, False), (0, 0)), ((0, 1), (0, 1)), ((0, 2), (0, 2))))))
 
+    def test_rows_that_no_book_has(self):
+        empty = Book({})
+        for row in ((-1, 0), (0, -1), (1, 0), (0, 4), (False, 0), (0, False), (None, 0), (0, "0")):
+            for pair in ((row, (0, 0)), ((0, 0), row)):
+                self.assertIs(shows_alike(empty, empty, Alike((START, pair))), False)
+                self.assertIs(shows_within(empty, empty, Within((START, pair))), False)
+        self.assertIs(shows_alike(empty, empty, Alike((START, ((0, 3), (0, 2))))), True)
+        self.assertIs(shows_within(empty, empty, Within((START, ((0, 3), (0, 2))))), True)
+
     def test_the_first_pair_is_asked_for(self):
         self.assertIs(shows_alike(Book({}), Book({}), Alike((START,))), True)
         self.assertIs(shows_alike(Book({}), Book({}), Alike((((0, 1), (0, 1)),))), False)
@@ -194,6 +203,12 @@ class LooksLessened(Case):
         self.assertFalse(shows_lessened(self.book, self.changed(book=Book(*states[:-1], {"a": 0}, most=most))))
         self.assertFalse(shows_lessened(self.book, self.changed(book=str(self.paper.least))))
         self.assertFalse(shows_lessened(PLAIN, self.paper))
+        # A state that is no lot of rows, though walks part it from all others.
+        more = Book({"": 1}, {"": 2}, {}, {"a": 0}, most=2)
+        parted = [(0, 1, ("a", "a")), (0, 2, ("a",)), (0, 3, ("b",)), (1, 2, ("a",)), (1, 3, ("b",)), (2, 3, ("a",))]
+        self.assertTrue(shows_lessened(PLAIN, Lessened(Book(*more.states[:3], most=2), (0, 1, 2),
+                                                       tuple(row for row in parted if row[1] < 3))))
+        self.assertFalse(shows_lessened(PLAIN, Lessened(more, (0, 1, 2), tuple(parted))))
         # A state that is there twice: no walk parts it from itself.
         double = Book({"": 1}, {"": 2}, {}, {}, most=2)
         told = lessened(PLAIN)

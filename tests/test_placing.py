@@ -115,6 +115,15 @@ class Placing(Case):
         self.assertSame([told.place, told.height], [499999999, 500000000])
         self.assertSame(told.floors, ((0, LAST - 1, (LAST, None)),))
 
+    def test_gaps_of_one_place_at_the_ends(self):
+        # Only 0 and 999999999 are free beside what two hosts leave of all places.
+        ring = Ring((1, "a"), (LAST - 1, "a"))
+        told = best_place(Book({"": 0}, most=1), ring, "a")
+        self.assertSame([floor[:2] for floor in told.floors], [(0, 0), (2, LAST - 2), (LAST, LAST)])
+        self.assertIs(shows_best(Book({"": 0}, most=1), ring, "a", told), True)
+        self.assertSame([floor[:2] for floor in best_place(Book({}), Ring((0, "a"), (LAST, "a")), "a").floors],
+                        [(1, LAST - 1)])
+
     def test_a_passed_newcomer(self):
         told = best_place(Book({"a": 0}, most=1), Ring((0, "a")), "b")
         self.assertTrue(told == Best(1, 10 ** 9, ((1, LAST, (0,)),)))
@@ -183,7 +192,7 @@ class Looking(Case):
         self.assertSame([floor[:2] for floor in floors], [(2, 4), (6, LAST - 1)])
         wrong = [floors[:1], floors[1:], (), floors[::-1], list(floors), (*floors, floors[-1]), (None, floors[1])]
         first, last, hosts = floors[1]
-        for other in (list(hosts), (), hosts * 2, hosts + (None,), (None, 0), (5, 0), (0, 0), (None, None), (7,), (0, 7),
+        for other in (list(hosts), (), hosts * 2, hosts + (None,), (None, 0), (5, 0), (0, 1, 5), (0, 1, None), (0, 1, 5, LAST, None), (0, 0), (None, None), (7,), (0, 7),
                       (True,), (False, 5), (0, "5"), ("0",), ((0,),), ([0],), None, 0):
             wrong.append((floors[0], (first, last, other)))
         for triple in ((first, last), [first, last, hosts], (first, last, hosts, 0), (first + 1, last, hosts),
@@ -192,6 +201,16 @@ class Looking(Case):
         for other in wrong:
             self.assertIs(shows_best(book, ring, name, Best(told.place, told.height, other)), False, other)
         self.assertTrue(shows_best(book, ring, name, told))
+
+    def test_one_or_two_hosts(self):
+        # All hosts are copies of all keys: each of them is a floor, and each two are.
+        book, ring = Book({"": 0}, most=5), Ring((0, "a"), (4, "a"), (7, "a"))
+        told = best_place(book, ring, "a")
+        self.assertSame([told.place, told.height], [1, 10 ** 9])
+        for hosts, wanted in (((0,), True), ((None,), True), ((0, 4), True), ((7, None), True), ((4, 0), False),
+                              ((0, 4, 7), False), ((0, 4, None), False), ((0, 4, 7, None), False)):
+            floors = ((1, 3, hosts), *told.floors[1:])
+            self.assertIs(shows_best(book, ring, "a", Best(1, 10 ** 9, floors)), wanted)
 
     def test_strange_values(self):
         book, ring = Book({"": 0}, most=1), Ring((0, "a"))

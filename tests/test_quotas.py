@@ -238,6 +238,13 @@ class Texts(Case):
                 word = at + 1 if wrong == "-" and at == 2 else at
                 self.assertRaisesJust(BadText(0, word), Quotas.from_text, text)
 
+    def test_a_word_too_many_at_each_place(self):
+        words = "3 : 1 a b ; 2 a *".split(" ")
+        for at in range(len(words) + 1):
+            for wrong in ("", "?", "6", "A", "*a"):
+                text = " ".join([*words[:at], wrong, *words[at:]])
+                self.assertRaisesJust(BadText(0, at), Quotas.from_text, text)
+
     def test_words_that_cannot_stand(self):
         for text, word in (
             ("", 0), ("0 : -", 0), ("6 : -", 0), ("3", 1), ("3 -", 1), ("3 :", 2), ("3 : - -", 3), ("3 : - ;", 3),

@@ -1,0 +1,73 @@
+"""What holds for all papers: attributes, copies all the way in, equality, bool."""
+
+import unittest
+
+from stayopen.alike_books import Alike, Beyond, Unlike, Within
+from stayopen.books import Book
+from stayopen.least_books import Lessened
+from stayopen.nested import Exchange
+from stayopen.placing import Best
+from stayopen.verdicts import Verdict
+from tests.helpers import STRANGE, Case
+
+# Each paper with its parameters, and what bool tells of it.
+PAPERS = (
+    (Alike, ("pairs",), True), (Unlike, ("word",), False), (Within, ("pairs",), True), (Beyond, ("word",), False),
+    (Lessened, ("least", "lots", "parted"), True), (Best, ("place", "height", "floors"), True),
+    (Exchange, ("gone", "new", "kept"), True),
+)
+VERDICTS = (Alike, Unlike, Within, Beyond)
+
+
+class Papers(Case):
+    def test_attributes_and_bool(self):
+        for made, names, answer in PAPERS:
+            for value in STRANGE:
+                values = [value, *range(1, len(names))]
+                paper = made(*values)
+                self.assertSame(vars(paper), dict(zip(names, values)))
+                self.assertSame(vars(made(**dict(zip(names, values)))), dict(zip(names, values)))
+                self.assertIs(bool(paper), answer)
+            self.assertIs(issubclass(made, Verdict), made in VERDICTS)
+
+    def test_copies_all_the_way_in(self):
+        book = Book({})
+        for made, names, _ in PAPERS:
+            for at in range(len(names)):
+                value = [1, ({"a": [2, {"b": (book, [3])}]},)]
+                values = [0] * len(names)
+                values[at] = value
+                paper = made(*values)
+                value[1][0]["a"][1]["b"][1].append(4)
+                value[1][0]["a"].append(5)
+                value[1][0]["c"] = 6
+                value.append(7)
+                self.assertSame(getattr(paper, names[at]), [1, ({"a": [2, {"b": (book, [3])}]},)])
+                self.assertIs(getattr(paper, names[at])[1][0]["a"][1]["b"][0], book)
+
+    def test_equality(self):
+        for made, names, _ in PAPERS:
+            values = [(at, [at]) for at in range(len(names))]
+            paper = made(*values)
+            self.assertIs(paper == made(*values), True)
+            self.assertIs(paper != made(*values), False)
+            # As Python compares them: 1 is equal to True, a tuple is not equal to a list.
+            self.assertIs(made(*[1] * len(names)) == made(*[True] * len(names)), True)
+            for at in range(len(names)):
+                other = [*values[:at], [*values[at]], *values[at + 1:]]
+                self.assertIs(paper == made(*other), False)
+                self.assertIs(paper != made(*other), True)
+            for value in (*STRANGE, values, tuple(values), Book({})):
+                self.assertIs(paper == value, False)
+                self.assertIs(paper != value, True)
+
+    def test_papers_of_unlike_classes(self):
+        for one, names, _ in PAPERS:
+            for other, others, _ in PAPERS:
+                if one is not other and len(names) == len(others):
+                    self.assertIs(one(*names) == other(*names), False)
+                    self.assertIs(one(*names) != other(*names), True)
+
+
+if __name__ == "__main__":
+    unittest.main()
