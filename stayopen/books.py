@@ -16,7 +16,9 @@ class Book:
     def __init__(self, *states, most=3):
         check_book(states, most)
         self._states = tuple([{key: state[key] for key in state} for state in states])
-        self._most = most
+        # Other classes store a most and names, too, so here they are no properties.
+        self.most = most
+        self.names = tuple(told_names(states))
 
     @property
     def states(self):
@@ -24,20 +26,10 @@ class Book:
         return tuple([{key: state[key] for key in state} for state in self._states])
 
     @property
-    def most(self):
-        """How many hosts a walk takes at most."""
-        return self._most
-
-    @property
-    def names(self):
-        """The ascending tuple of all names that the states tell."""
-        return tuple(told_names(self._states))
-
-    @property
     def room(self):
         """The greatest number of copies that any ring has."""
         table = table_of(self._states, classes(self))
-        return max([copies for _, copies in rows_from(table, self._most)])
+        return max([copies for _, copies in rows_from(table, self.most)])
 
     def step(self, state, name):
         """The state behind a host of this class in a state, None if it is passed."""
@@ -57,7 +49,7 @@ class Book:
         taken = []
         for name in names:
             behind = behind_in(self._states[state], name)
-            is_taken = copies < self._most and behind is not None
+            is_taken = copies < self.most and behind is not None
             if is_taken:
                 state = behind
                 copies += 1
@@ -72,7 +64,7 @@ class Book:
         if len(names) > MOST_NAMES + 1:
             raise BadBook("names")
         states = common_states(self.states, other.states, names)
-        most = min(self._most, other.most)
+        most = min(self.most, other.most)
         return Book(*states, most=most)
 
     def __eq__(self, other):
@@ -81,7 +73,7 @@ class Book:
         return paired_books(self, other, True)[1] is None
 
     def __str__(self):
-        return f"book {self._most} : {states_text(self._states)}"
+        return f"book {self.most} : {states_text(self._states)}"
 
     @classmethod
     def from_text(cls, text):

@@ -63,7 +63,7 @@ class Interface(Case):
 
     def test_properties_and_methods_of_classes(self):
         books = importlib.import_module("stayopen.books")
-        for name in ("states", "most", "names", "room"):
+        for name in ("states", "room"):
             self.assertIs(type(vars(books.Book)[name]), property)
         quotas = importlib.import_module("stayopen.quotas")
         rings = importlib.import_module("stayopen.rings")
