@@ -24,11 +24,21 @@ def lowest(top, bottom):
 
 def check_ordered(book, names):
     """Raises the errors of functions of a book and of hosts of some classes."""
+    check_classes(book, names)
+    check_many(len(names))
+
+
+def check_classes(book, names):
+    """Raises the errors for what is no book, and for the first value that is no name."""
     need_book(book, "book")
     for name in names:
         if not is_name(name):
             raise BadName(name)
-    if len(names) > MOST_ORDERED:
+
+
+def check_many(many):
+    """Raises TooMany for more hosts than can be put in all orders."""
+    if many > MOST_ORDERED:
         raise TooMany("hosts", MOST_ORDERED)
 
 

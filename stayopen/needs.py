@@ -1,9 +1,11 @@
 """Errors for arguments that are not what a function needs."""
 
 from stayopen.books import Book
-from stayopen.checks import is_place
+from stayopen.checks import is_place, is_within
 from stayopen.errors import BadBook, BadNumber, BadRing
 from stayopen.rings import Ring
+
+MOST_CHANGES = 3
 
 
 def need_book(value, part):
@@ -21,4 +23,10 @@ def need_ring(value, part):
 def need_key(value):
     """Raises BadNumber for any value that is no key."""
     if not is_place(value):
+        raise BadNumber(value)
+
+
+def need_changes(value):
+    """Raises BadNumber for any value that is no number of changes at once."""
+    if not is_within(value, 1, MOST_CHANGES):
         raise BadNumber(value)

@@ -8,7 +8,7 @@ from stayopen import errors
 from tests.helpers import Case
 
 HERE = os.path.dirname(os.path.abspath(__file__))
-FILES = ("examples_stage_1.txt", "examples_stage_2.txt")
+FILES = ("examples_stage_1.txt", "examples_stage_2.txt", "examples_stage_3.txt", "examples_stage_4.txt")
 
 
 def read_examples():

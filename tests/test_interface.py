@@ -21,6 +21,19 @@ FUNCTIONS = {
     "nested": ("is_nested(quotas)", "room(quotas)", "most_taken(quotas, *names)",
                "exchange(quotas, ring, change, key)"),
     "shares": ("shares(book, *names)", "counts(book, *names)"),
+    "moved": ("moved_chances(book, name, *names)", "turned_chances(book, one, other, *names)"),
+    "pairs": ("rows_of(book, changes=1)", "is_closed(book, table, changes=1)"),
+    "leaps": ("leaps(book, changes=1)", "leap_at(book, ring, key, *changes)", "most_gone(book, changes=1)"),
+    "look_leaps": ("shows_leaps(book, value, changes=1)",),
+    "steady": ("steady(book)", "shows_steady(book, value)"),
+    "lots": ("is_idle(book, lots)",),
+    "bears": ("bears(book, read, keep, changes=1)", "greatest_sum(book, read, keep, changes=1)",
+              "frontier(book, changes=1)", "stopping(book)", "price(book, changes=1)", "fewest(falls, changes=1)"),
+    "look_bears": ("shows_bears(book, read, keep, value, changes=1)",),
+    "four_lots": ("four(quotas, lots)",),
+    "stamps": ("nothing()", "is_greater(one, other, names=True)", "greatest(kepts, names=True)"),
+    "steps": ("is_step(value)",),
+    "histories": ("parts(asks)", "zones(asks)"),
 }
 CLASSES = {
     "verdicts": {"Verdict": ()},
@@ -39,6 +52,28 @@ CLASSES = {
                        "__add__(self, host)", "__sub__(self, place)", "__rshift__(self, n)")},
     "placing": {"Best": ("__init__(self, place, height, floors)", "__eq__(self, other)")},
     "nested": {"Exchange": ("__init__(self, gone, new, kept)", "__eq__(self, other)")},
+    "leaps": {"Leaps": ("__init__(self, triples, table)", "__eq__(self, other)")},
+    "steady": {"Steady": ("__init__(self, table)", "__bool__(self)", "__eq__(self, other)"),
+               "Leaping": ("__init__(self, ring, change)", "__bool__(self)", "__eq__(self, other)")},
+    "lots": {"Lots": ("__init__(self, read, keep, sweep=None, spare=None)", "__eq__(self, other)", "__str__(self)")},
+    "bears": {"Bears": ("__init__(self, table)", "__bool__(self)", "__eq__(self, other)"),
+              "Breaks": ("__init__(self, ring, changes, kept, heard)", "__bool__(self)", "__eq__(self, other)")},
+    "four_lots": {"Right": ("__init__(self, idle)", "__bool__(self)", "__eq__(self, other)"),
+                  "Wrong": ("__init__(self, word)", "__bool__(self)", "__eq__(self, other)")},
+    "stamps": {"Kept": ("__init__(self, stamp, put, value)", "__eq__(self, other)")},
+    "letters": {"Letter": ("__init__(self, number, sender, receiver, word, parts)", "__eq__(self, other)")},
+    "hosts": {"Host": ("__init__(self, place)", "kept(self, key)", "answered(self, word, parts, cares=())",
+                       "__contains__(self, key)", "__iter__(self)", "__len__(self)", "__bool__(self)",
+                       "__eq__(self, other)")},
+    "store": {"Store": ("__init__(self, ring, book, lots, cares=(), changes=1)", "__eq__(self, other)")},
+    "histories": {"Ask": ("__init__(self, client, word, begun, ended=None, told=None)", "is_ahead(self, other)",
+                          "__eq__(self, other)")},
+    "player": {"Asking": ("__init__(self, ask, word, key, epoch, stage, attempt, kept, noted)", "__eq__(self, other)"),
+               "Player": ("__init__(self, store)", "step(self, step)", "run(self, *steps)", "undo(self)",
+                          "attempt(self, step)", "trial(self)", "tried(self, work)", "twin(self)", "__eq__(self, other)",
+                          "ring_of(self, epoch)", "copies_of(self, key, epoch)", "host(self, place)",
+                          "known(self, client)", "asking(self, client)", "letters(self)", "letter(self, number)",
+                          "history(self, key)", "answer(self, ask)", "swept(self, epoch)", "fenced(self, epoch)")},
 }
 
 
@@ -65,6 +100,9 @@ class Interface(Case):
         books = importlib.import_module("stayopen.books")
         for name in ("states", "room"):
             self.assertIs(type(vars(books.Book)[name]), property)
+        players = importlib.import_module("stayopen.player")
+        for name in ("deeds", "clock", "is_settled", "clients", "fallen"):
+            self.assertIs(type(vars(players.Player)[name]), property)
         quotas = importlib.import_module("stayopen.quotas")
         rings = importlib.import_module("stayopen.rings")
         for made in (books.Book, quotas.Quotas):

@@ -3,10 +3,17 @@
 import unittest
 
 from stayopen.alike_books import Alike, Beyond, Unlike, Within
+from stayopen.bears import Bears, Breaks
 from stayopen.books import Book
+from stayopen.four_lots import Right, Wrong
+from stayopen.leaps import Leaps
 from stayopen.least_books import Lessened
+from stayopen.letters import Letter
 from stayopen.nested import Exchange
 from stayopen.placing import Best
+from stayopen.player import Asking
+from stayopen.stamps import Kept
+from stayopen.steady import Leaping, Steady
 from stayopen.verdicts import Verdict
 from tests.helpers import STRANGE, Case
 
@@ -14,9 +21,13 @@ from tests.helpers import STRANGE, Case
 PAPERS = (
     (Alike, ("pairs",), True), (Unlike, ("word",), False), (Within, ("pairs",), True), (Beyond, ("word",), False),
     (Lessened, ("least", "lots", "parted"), True), (Best, ("place", "height", "floors"), True),
-    (Exchange, ("gone", "new", "kept"), True),
+    (Exchange, ("gone", "new", "kept"), True), (Leaps, ("triples", "table"), True), (Steady, ("table",), True),
+    (Leaping, ("ring", "change"), False), (Bears, ("table",), True),
+    (Breaks, ("ring", "changes", "kept", "heard"), False), (Right, ("idle",), True), (Wrong, ("word",), False),
+    (Kept, ("stamp", "put", "value"), True), (Letter, ("number", "sender", "receiver", "word", "parts"), True),
+    (Asking, ("ask", "word", "key", "epoch", "stage", "attempt", "kept", "noted"), True),
 )
-VERDICTS = (Alike, Unlike, Within, Beyond)
+VERDICTS = (Alike, Unlike, Within, Beyond, Steady, Leaping, Bears, Breaks, Right, Wrong)
 
 
 class Papers(Case):
