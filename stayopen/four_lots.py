@@ -2,7 +2,7 @@
 
 from stayopen.copied import copied
 from stayopen.lots import need_lots
-from stayopen.nested import need_nested, need_quotas, room
+from stayopen.nested import need_quotas, room
 from stayopen.verdicts import Verdict
 
 
@@ -36,7 +36,6 @@ def four(quotas, lots):
     """Whether every run of begins of one change is one register per key: a Right or a Wrong."""
     need_quotas(quotas)
     need_lots(lots)
-    need_nested(quotas)
     most = room(quotas)
     if max(lots.read, lots.keep) > most:
         return Right(True)

@@ -61,7 +61,7 @@ def check_ask(client, word, begun, ended, told):
     """Raises BadAsk with the first part of an ask that is wrong."""
     if not is_name(client):
         raise BadAsk("client")
-    if not isinstance(word, str) or word not in ("put", "get"):
+    if word not in ("put", "get"):
         raise BadAsk("word")
     if not is_count(begun):
         raise BadAsk("begun")

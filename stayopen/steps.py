@@ -9,7 +9,7 @@ STEPS = ("put", "get", "tell", "again", "drop", "pass", "twin", "lose", "fall", 
 
 def is_step(value):
     """Whether any value is a step."""
-    if not isinstance(value, tuple) or len(value) == 0 or not isinstance(value[0], str):
+    if not isinstance(value, tuple) or len(value) == 0:
         return False
     word = value[0]
     told = value[1:]

@@ -36,6 +36,6 @@ def need_cares(cares):
         raise BadCare(cares)
     found = []
     for care in cares:
-        if not isinstance(care, str) or care not in Store.CARES or care in found:
+        if care not in Store.CARES or care in found:
             raise BadCare(care)
         found.append(care)

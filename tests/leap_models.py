@@ -20,8 +20,11 @@ AT_THE_BOUND = (
 )
 CROSS = Book({"ac": 1, "ad": 2, "bc": 3, "bd": 4}, {"bd": 5}, {"bc": 5}, {"ad": 5}, {"ac": 5}, {}, most=2)
 LATE = Book({"x": 1, "r": 4}, {"x": 2}, {"x": 3}, {}, {"y": 3}, most=3)
+# Five hosts of the class d; but with the classes p and q at most four copies or three, and mostly of one of both.
+STAIRS = Book({"d": 1, "p": 6, "q": 10}, {"d": 2, "p": 7, "q": 11}, {"d": 3, "p": 8, "q": 12}, {"d": 4, "p": 9}, {"d": 5},
+              {}, {"p": 7, "d": 7}, {"p": 8, "d": 8}, {"p": 9, "d": 9}, {}, {"q": 11, "d": 11}, {"q": 12, "d": 12}, {}, most=5)
 BOOKS = (Book({"": 0}, most=1), Book({"": 0}, most=2), Book({"": 0}, most=3), Book({}), Book({"a": 0}, most=2),
-         Book({"a": 0, "": None}, most=1), Book({"a": 1, "b": 2}, {"b": 3}, {"a": 3}, {}, most=2), CROSS, LATE)
+         Book({"a": 0, "": None}, most=1), Book({"a": 1, "b": 2}, {"b": 3}, {"a": 3}, {}, most=2), CROSS, LATE, STAIRS)
 
 
 def book_at(number):

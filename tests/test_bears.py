@@ -13,7 +13,7 @@ from stayopen.quotas import Quotas
 from stayopen.rings import Ring
 from stayopen.walks import copies
 from tests.helpers import STRANGE, Case
-from tests.leap_models import BOOKS, CROSS, LATE, all_rows, bears_model, book_at, some_books
+from tests.leap_models import BOOKS, CROSS, LATE, STAIRS, all_rows, bears_model, book_at, some_books
 from tests.test_lots import NO_LOTS
 from tests.test_pairs import BAD_CHANGES
 
@@ -68,6 +68,9 @@ class Tells(Case):
             self.assertSame(stopping(book), tuple((read, room + 1 - read) for read in range(1, room + 1)))
             cost = min((read + keep for read, keep in wanted), default=None)
             self.assertSame(price(book, changes), None if cost is None else cost - room - 1)
+
+    def test_a_frontier_of_unlike_sums(self):
+        self.assertSame([frontier(STAIRS), price(STAIRS), STAIRS.room], [((2, 5), (4, 4), (5, 2)), 1, 5])
 
     def test_books_of_no_copies(self):
         for book in (Book({}), Book({"a": None}, most=5)):
@@ -204,6 +207,10 @@ class Shows(Case):
         ):
             self.assertIs(shows_bears(PAIR, read, keep, Breaks(*told)), wanted, told)
         self.assertIs(shows_bears(PAIR, 2, 1, Breaks(ring, (*come, ("come", 0, "q")), (0,), (2, 3)), 2), True)
+        # The host at the key's own place comes first.
+        self.assertIs(shows_bears(PAIR, 1, 1, Breaks(Ring((0, "a"), (1, "a"), (2, "a")), (("go", 2),), (1,), (0,))), True)
+        self.assertIs(shows_bears(PAIR, 1, 1, Breaks(Ring((0, "a"), (1, "a"), (2, "a")), (("go", 2),), (0,), (1,))), True)
+        self.assertIs(shows_bears(PAIR, 1, 1, Breaks(Ring((0, "a"), (1, "a"), (2, "a")), (), (0,), (2,))), False)
         wide = Book({"": 0}, most=4)
         row = Ring(*[(at, "a") for at in range(1, 5)])
         self.assertIs(shows_bears(wide, 2, 2, Breaks(row, (), (1, 3), (2, 4))), True)

@@ -38,7 +38,7 @@ class Examples(Case):
                     self.assertRaisesJust(error, eval, code, names)
                 else:
                     self.assertSame(eval(code, names), ast.literal_eval(wanted))
-        self.assertGreater(seen, 40)
+        self.assertGreater(seen, 150)
 
 
 if __name__ == "__main__":

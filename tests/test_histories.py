@@ -155,6 +155,7 @@ class Histories(Case):
             self.assertRaisesJust(BadAsk("asks"), work, {0: put})
             self.assertRaisesJust(BadAsk("asks"), work, put)
             self.assertRaisesJust(BadAsk(0), work, [get])
+            self.assertRaisesJust(BadAsk(1), work, [put, Ask("q", "get", 2, 3, 2)])
             self.assertRaisesJust(BadAsk(1), work, [put, Ask("q", "get", 2, 3, 2), get])
             self.assertRaisesJust(BadAsk(2), work, (put, get, Ask("q", "get", 2, 3, 1), Ask("q", "get", 2, 3, 9)))
             self.assertRaisesJust(BadAsk(0), work, [Ask("q", "get", 2, 3, 10 ** 40)])

@@ -143,6 +143,9 @@ class ShowsLeaps(Case):
         self.assertIs(shows_leaps(LATE, self.changed((3, 2, 0), (further, moved))), True)
         self.assertIs(shows_leaps(LATE, self.changed((3, 2, 0), (ring.changed(*changes),
                                                                  ring.changed(*changes).changes_to(ring)))), False)
+        # The host at the key's own place comes first.
+        here = Ring((0, "r"), (1, "x"), (2, "x"), (3, "y"), (4, "x"))
+        self.assertIs(shows_leaps(LATE, self.changed((2, 3, 0), (here, (("turn", 0, "q"),)))), True)
         back = (ring.changed(*changes), ring.changed(*changes).changes_to(ring))
         self.assertIs(shows_leaps(LATE, self.changed((2, 3, 0), back)), True)
         # A table with a row that never comes up and leads to no other one; its triple is told anyhow.

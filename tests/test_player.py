@@ -131,6 +131,10 @@ class Tells(Case):
         player.run(("lose", 2), ("get", "q", 6))
         self.assertSame([letter.number for letter in told], [2])
         self.assertSame([letter.number for letter in player.letters()], [1, 3, 4, 5])
+        # By their numbers also where one is on the way again.
+        player.step(("lose", 1))
+        player.undo()
+        self.assertSame([letter.number for letter in player.letters()], [1, 3, 4, 5])
         self.assertTrue(player.letter(1) == Letter(1, "p", 20, "hear", (0, 0, 0, 5)))
 
 
@@ -233,8 +237,11 @@ class Bounds(Case):
         self.assertSame(player.clients, tuple(names))
         for step in (("tell", "z"), ("put", "z", 1, 0), ("get", "z", 2)):
             self.assertRaisesJust(TooMany("clients", 20), player.step, step)
-        player.run(("tell", "aa"), ("get", "bb", 2), ("tell", "tt"))
-        self.assertRaisesJust(Clashing("busy"), player.step, ("get", "tt", 1))
+        player.undo()
+        player.step(("tell", "cab"))
+        self.assertSame(player.clients, ("aa", "bb", "cab", *names[2:19]))
+        player.run(("tell", "aa"), ("get", "bb", 2), ("tell", "cab"))
+        self.assertRaisesJust(Clashing("busy"), player.step, ("get", "ss", 1))
 
     def test_keys_and_asks(self):
         player = plain_player(0)
@@ -389,9 +396,8 @@ class Papers(Case):
         self.assertTrue(player.asking("p") == Asking(0, "get", 5, 0, 2, 1, Kept((0, ""), None, None), ()))
         give(player, "keep")
         self.assertSame([letter[3:] for letter in letters(player)], [("hear", (0, 0, 0, 5)), *[("kept", (0, 1))] * 3])
-        last, *_ = reversed(on_way(player))
-        player.step(("pass", last))
-        player.step(("pass", last - 1))
+        give(player, "kept", (20,))
+        give(player, "kept", (0,))
         self.assertSame(player.asking("p").noted, (0, 20))
 
 

@@ -418,6 +418,41 @@ class Keeper(Case):
         self.assertSame([(letter[2], letter[4][:2]) for letter in letters(player)],
                         [(30, (1, 0)), (30, (1, 25)), (10, (1, 25)), (20, (1, 25))])
 
+    def test_the_keeper_chooses_once_and_for_all(self):
+        player = plain_player(4, lots=Lots(2, 2, 2, 1))
+        ask(player, "put", "p", 0, 1, keep=(0, 10))
+        ask(player, "put", "q", 0, 2, keep=(20,))
+        player.step(("begin", ("go", 0)))
+        settle(player, fence=(0, 10, 30), sweep=())
+        self.assertSame([player.swept(1)[0][0].stamp, player.fenced(1)], [(1, "p"), (0, 10, 30)])
+        # A host that is noted later, and tells more, changes nothing of it; no sweep is sent anew.
+        sent = on_way(player, "sweep")
+        settle(player, fence=(20,), sweep=())
+        self.assertSame([player.swept(1)[0][0].stamp, player.fenced(1)], [(1, "p"), (0, 10, 20, 30)])
+        self.assertSame(on_way(player, "sweep"), sent)
+
+    def test_a_copy_answers_a_sweep_once(self):
+        player = plain_player(4, lots=Lots(2, 2, 2, 0))
+        ask(player, "put", "p", 0, 1)
+        player.step(("begin", ("go", 0)))
+        settle(player, sweep=())
+        player.run(("twin", on_way(player, "sweep")[0]), ("pass", on_way(player, "sweep")[0]))
+        give(player, "swept")
+        self.assertSame([player.swept(1)[0][1], player.is_settled], [(10,), False])
+
+    def test_settle_sends_nothing_for_what_has_settled(self):
+        player = plain_player(4, lots=Lots(2, 2, 2, 1), cares=("early",))
+        ask(player, "put", "p", 0, 1)
+        player.step(("begin", ("go", 0)))
+        settle(player, fence=(0, 10, 30), sweep=(10, 30))
+        self.assertSame([player.is_settled, player.fenced(1), player.swept(1)[0][1]], [True, (0, 10, 30), (10, 30)])
+        player.step(("begin", ("go", 10)))
+        for number in on_way(player):
+            player.step(("lose", number))
+        # One fence of the elder begin, and one sweep, have no answer; but it has settled.
+        player.step(("settle",))
+        self.assertSame([letter[2:] for letter in letters(player)], [(place, "fence", (1,)) for place in (10, 20, 30)])
+
     def test_a_sweep_comes_whatever_is_closed(self):
         player = plain_player(5, lots=Lots(2, 2, 2, 1))
         ask(player, "put", "p", 0, 1, keep=(0, 10))

@@ -14,6 +14,7 @@ from tests.helpers import STRANGE, Case
 from tests.leap_models import BOOKS, CROSS, LATE, all_rows, book_at, some_books
 
 PAIR = Book({"": 0}, most=2)
+LAST = 999999999
 
 
 class Tells(Case):
@@ -43,7 +44,8 @@ class Tells(Case):
     def test_errors(self):
         for value in STRANGE:
             self.assertRaisesJust(BadBook("book"), steady, value)
-            self.assertRaisesJust(BadBook("book"), shows_steady, value, steady(PAIR))
+            for paper in (steady(PAIR), steady(CROSS), None):
+                self.assertRaisesJust(BadBook("book"), shows_steady, value, paper)
 
     def test_the_bound_of_rows(self):
         told = steady(book_at(0))
@@ -77,6 +79,9 @@ class Shows(Case):
                                      (list(corners), ("go", 1), False), (corners, None, False)):
             self.assertIs(shows_steady(CROSS, Leaping(ring, change)), wanted, change)
         self.assertIs(shows_steady(PAIR, Leaping(corners, ("go", 1))), False)
+        # The host at the key's own place comes first.
+        self.assertIs(shows_steady(CROSS, Leaping(corners >> -1, ("go", 0))), True)
+        self.assertIs(shows_steady(CROSS, Leaping(corners >> -2, ("go", LAST))), False)
         # Only gone copies above one, and only new ones: both are enough.
         row = Ring((1, "x"), (2, "r"), (3, "x"), (4, "x"))
         self.assertIs(shows_steady(LATE, Leaping(row, ("go", 1))), True)
