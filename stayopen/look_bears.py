@@ -1,12 +1,12 @@
 """A looker for what a book bears: it goes along tables and copies, and searches nothing."""
 
 from stayopen.bears import Bears, Breaks, is_breaking
-from stayopen.checks import is_integer
 from stayopen.leaps import leap_of
 from stayopen.lots import need_read_and_keep
 from stayopen.needs import need_book, need_changes
 from stayopen.pair_rings import ring_behind
 from stayopen.pairs import is_closed
+from stayopen.same import is_lot_of
 from stayopen.walks import copies
 
 
@@ -29,12 +29,3 @@ def shows_bears(book, read, keep, value, changes=1):
     if not is_lot_of(copies(book, value.ring, 0), read, value.heard):
         return False
     return not any([place in value.heard for place in value.kept])
-
-
-def is_lot_of(places, many, value):
-    """Whether any value is a tuple of just so many of the unlike places, in their order."""
-    if not isinstance(value, tuple) or len(value) != many:
-        return False
-    if not all([is_integer(place) for place in value]):
-        return False
-    return value == tuple([place for place in places if place in value])

@@ -35,9 +35,7 @@ def room(quotas):
     """The greatest number of copies that any ring has."""
     need_quotas(quotas)
     need_nested(quotas)
-    # Nested quotas take the same number in each order; more than most of a class never count.
-    names = [*quotas.names, free_letter(quotas.names)] * quotas.most
-    return sum(quotas.takes(*names))
+    return len(classes_of_most(quotas))
 
 
 def most_taken(quotas, *names):
@@ -63,6 +61,14 @@ def exchange(quotas, ring, change, key):
     new = [place for place in behind if place not in ahead]
     kept = sorted([place for place in ahead if place in behind])
     return Exchange(first_of(gone), first_of(new), tuple(kept))
+
+
+def classes_of_most(quotas):
+    """The classes of as many copies as any ring has, by nested quotas."""
+    # Nested quotas take the same number in each order; more than most of a class never count.
+    names = [*quotas.names, free_letter(quotas.names)] * quotas.most
+    taken = quotas.takes(*names)
+    return [names[at] for at in range(len(names)) if taken[at]]
 
 
 def need_quotas(value):

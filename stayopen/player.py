@@ -211,6 +211,12 @@ class Player:
         return tuple(sorted([place for place, _ in self._play.tables["begin"][epoch]["noted"]]))
 
 
+def need_player(value):
+    """Raises BadPlayer for any value that is no Player."""
+    if not isinstance(value, Player):
+        raise BadPlayer("player")
+
+
 def need_epoch(player, epoch):
     """Raises BadNumber for any value that is no number of an epoch that has begun."""
     if not is_within(epoch, 0, player.epoch):

@@ -8,7 +8,8 @@ from stayopen import errors
 from tests.helpers import Case
 
 HERE = os.path.dirname(os.path.abspath(__file__))
-FILES = ("examples_stage_1.txt", "examples_stage_2.txt", "examples_stage_3.txt", "examples_stage_4.txt")
+FILES = ("examples_stage_1.txt", "examples_stage_2.txt", "examples_stage_3.txt", "examples_stage_4.txt",
+         "examples_stage_5.txt")
 
 
 def read_examples():
@@ -38,7 +39,7 @@ class Examples(Case):
                     self.assertRaisesJust(error, eval, code, names)
                 else:
                     self.assertSame(eval(code, names), ast.literal_eval(wanted))
-        self.assertGreater(seen, 150)
+        self.assertGreater(seen, 200)
 
 
 if __name__ == "__main__":

@@ -6,12 +6,15 @@ from stayopen.alike_books import Alike, Beyond, Unlike, Within
 from stayopen.bears import Bears, Breaks
 from stayopen.books import Book
 from stayopen.four_lots import Right, Wrong
+from stayopen.guards import Gap, Guard
 from stayopen.leaps import Leaps
 from stayopen.least_books import Lessened
 from stayopen.letters import Letter
 from stayopen.nested import Exchange
+from stayopen.orders import Order, Quarrel
 from stayopen.placing import Best
 from stayopen.player import Asking
+from stayopen.runs import Run
 from stayopen.stamps import Kept
 from stayopen.steady import Leaping, Steady
 from stayopen.verdicts import Verdict
@@ -26,8 +29,11 @@ PAPERS = (
     (Breaks, ("ring", "changes", "kept", "heard"), False), (Right, ("idle",), True), (Wrong, ("word",), False),
     (Kept, ("stamp", "put", "value"), True), (Letter, ("number", "sender", "receiver", "word", "parts"), True),
     (Asking, ("ask", "word", "key", "epoch", "stage", "attempt", "kept", "noted"), True),
+    (Order, ("indexes",), True), (Quarrel, ("word", "one", "other"), False), (Guard, ("rows",), True),
+    (Gap, ("key", "epoch", "word", "places"), False), (Run, ("store", "steps", "key"), True),
 )
-VERDICTS = (Alike, Unlike, Within, Beyond, Steady, Leaping, Bears, Breaks, Right, Wrong)
+VERDICTS = (Alike, Unlike, Within, Beyond, Steady, Leaping, Bears, Breaks, Right, Wrong,
+            Order, Quarrel, Guard, Gap)
 
 
 class Papers(Case):
