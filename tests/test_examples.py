@@ -9,7 +9,7 @@ from tests.helpers import Case
 
 HERE = os.path.dirname(os.path.abspath(__file__))
 FILES = ("examples_stage_1.txt", "examples_stage_2.txt", "examples_stage_3.txt", "examples_stage_4.txt",
-         "examples_stage_5.txt")
+         "examples_stage_5.txt", "examples_stage_6.txt")
 
 
 def read_examples():
@@ -28,7 +28,7 @@ def read_examples():
 class Examples(Case):
     def test_examples(self):
         names = {}
-        seen = 0  # so that an empty file does not pass
+        seen = 0  # so that a file with fewer lines does not pass
         for code, wanted in read_examples():
             seen += 1
             with self.subTest(code):
@@ -39,7 +39,7 @@ class Examples(Case):
                     self.assertRaisesJust(error, eval, code, names)
                 else:
                     self.assertSame(eval(code, names), ast.literal_eval(wanted))
-        self.assertGreater(seen, 200)
+        self.assertEqual(seen, 261)
 
 
 if __name__ == "__main__":

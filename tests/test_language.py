@@ -6,7 +6,7 @@ import os
 import unittest
 
 HERE = os.path.dirname(os.path.dirname(os.path.abspath(__file__)))
-LIBRARY = {"math": {"gcd", "factorial"}}
+LIBRARY = {"math": {"gcd", "factorial", "comb"}}
 CALLED = {"len", "range", "enumerate", "zip", "min", "max", "sum", "abs", "sorted", "reversed", "int", "str", "bool",
           "list", "tuple", "dict", "set", "isinstance", "any", "all", "iter"}
 METHODS = set("append clear copy count endswith extend find get index insert isdigit items join keys partition pop "
@@ -198,10 +198,17 @@ class Statements(unittest.TestCase):
     def test_modules_and_classes_hold_plain_values(self):
         for name, text in files():
             tree = ast.parse(text)
+            functions = set()
             for part in tree.body:
+                if isinstance(part, ast.FunctionDef):
+                    functions.add(part.name)
                 self.assertIsInstance(part, (ast.Expr, ast.ImportFrom, ast.Assign, ast.FunctionDef, ast.ClassDef), name)
                 if isinstance(part, ast.Assign):
                     self.assertEqual([len(part.targets), type(part.targets[0])], [1, ast.Name], name)
+                    if isinstance(part.value, ast.Dict) and all(isinstance(told, ast.Name) for told in part.value.values):
+                        # A table of functions that are defined above it.
+                        self.assertLessEqual({told.id for told in part.value.values}, functions, name)
+                        part.value.values = part.value.keys
                     ast.literal_eval(part.value)
                 if isinstance(part, ast.Expr):
                     self.assertIsInstance(part.value.value, str, name)

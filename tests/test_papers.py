@@ -5,6 +5,9 @@ import unittest
 from stayopen.alike_books import Alike, Beyond, Unlike, Within
 from stayopen.bears import Bears, Breaks
 from stayopen.books import Book
+from stayopen.calm import Calm
+from stayopen.ends import Ends, Stuck
+from stayopen.falls import Falls
 from stayopen.four_lots import Right, Wrong
 from stayopen.guards import Gap, Guard
 from stayopen.leaps import Leaps
@@ -31,9 +34,11 @@ PAPERS = (
     (Asking, ("ask", "word", "key", "epoch", "stage", "attempt", "kept", "noted"), True),
     (Order, ("indexes",), True), (Quarrel, ("word", "one", "other"), False), (Guard, ("rows",), True),
     (Gap, ("key", "epoch", "word", "places"), False), (Run, ("store", "steps", "key"), True),
+    (Ends, ("steps",), True), (Stuck, ("rows",), False), (Falls, ("many", "places", "key"), True),
+    (Calm, ("steps", "rounds"), True),
 )
 VERDICTS = (Alike, Unlike, Within, Beyond, Steady, Leaping, Bears, Breaks, Right, Wrong,
-            Order, Quarrel, Guard, Gap)
+            Order, Quarrel, Guard, Gap, Ends, Stuck)
 
 
 class Papers(Case):
