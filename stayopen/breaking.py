@@ -4,7 +4,7 @@ from stayopen.bears import bears
 from stayopen.errors import Nothing
 from stayopen.leading import answer, end_ask, go_on_newest
 from stayopen.lots import need_lots
-from stayopen.needs import need_book, need_changes
+from stayopen.needs import need_book
 from stayopen.player import Player
 from stayopen.runs import Run
 from stayopen.store import Store
@@ -14,7 +14,6 @@ def breaking(book, lots, changes=1):
     """A Run of a put and a get whose answers fit no order, of lots that the book does not bear."""
     need_book(book, "book")
     need_lots(lots)
-    need_changes(changes)
     told = bears(book, lots.read, lots.keep, changes)
     if told:
         raise Nothing()

@@ -2,7 +2,7 @@
 
 from stayopen.asking import client_of, present_ask
 from stayopen.doing import do_step
-from stayopen.going_on import NEWER, hosts_of, letters_of_try, stands
+from stayopen.going_on import hosts_of, letters_of_try, stands
 
 
 def steps_along(play, client, path):
@@ -17,7 +17,8 @@ def steps_along(play, client, path):
 
 def lead_on(play, client, node, other):
     """Leads the ask of a client from a node to a next one."""
-    if other[0] != NEWER or node[1] == other[1] and node[2] < other[2]:
+    # Only answers lead from the round 1 to the round 2.
+    if other[2] > node[2]:
         hear_enough(play, client, node)
     elif other[1] == client_of(play, client)["known"]:
         do_step(play, ("again", client))

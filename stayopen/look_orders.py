@@ -1,6 +1,6 @@
 """A looker for orders of asks: it goes along the indexes, and searches nothing."""
 
-from stayopen.checks import is_within
+from stayopen.checks import is_integer, is_within
 from stayopen.histories import need_asks, parts_of, zones
 from stayopen.orders import Order, Quarrel
 from stayopen.same import is_same
@@ -20,7 +20,7 @@ def shows_order(asks, value):
 
 def are_parts(asks, value):
     """Whether any value is a tuple of just the asks that play a part, each once."""
-    if not isinstance(value, tuple) or not all([is_within(at, 0, len(asks) - 1) for at in value]):
+    if not isinstance(value, tuple) or not all([is_integer(at) for at in value]):
         return False
     return sorted(list(value)) == parts_of(asks)
 
@@ -55,9 +55,9 @@ def is_along_time(asks, indexes):
 
 def is_future(asks, one, other):
     """Whether a get told by any value has ended ahead of the put that it tells, any value too."""
-    if not is_within(one, 0, len(asks) - 1) or not is_within(other, 0, len(asks) - 1):
+    if not is_within(one, 0, len(asks) - 1) or not is_integer(other) or asks[one].told != other:
         return False
-    return asks[one].told == other and asks[one].is_ahead(asks[other])
+    return asks[one].is_ahead(asks[other])
 
 
 def are_lots_at_odds(asks, one, other):

@@ -10,20 +10,18 @@ from stayopen.rings import Ring
 from stayopen.store import Store
 
 
-def full_ring(quotas, many):
-    """A ring of as many copies of the key 0 as can be, and of one host more for each of the first ones."""
+def full_player(quotas, book, lots, many, cares=()):
+    """A player of the book of some quotas, with as many copies of the key 0 as can be.
+
+    For each of the first so many copies there is a further host that can take its place.
+    """
     classes = classes_of_most(quotas)
     classes = [*classes, *classes[:many]]
     hosts = [(at, classes[at]) for at in range(len(classes))]
-    return Ring(*hosts)
+    return Player(Store(Ring(*hosts), book, lots, cares))
 
 
-def full_player(quotas, book, lots, many, cares=()):
-    """A player of such a ring, of the book of the quotas: the first so many copies can go."""
-    return Player(Store(full_ring(quotas, many), book, lots, cares))
-
-
-def replace(player, places, many):
+def let_go(player, places, many):
     """Hosts at some places go, one by each begin, until so many copies of the key 0 are at others.
 
     Each begin settles ahead of the next one, and no further copy comes to know what these hosts keep.
@@ -56,7 +54,7 @@ def run_forgotten(player, places):
     """What breaks a play in which the hosts at some places keep a put that has ended, and then go."""
     lots = player.store.lots
     end_ask(player, ("put", "p", 0, 1), player.copies_of(0, 0)[:lots.read], places)
-    replace(player, places, lots.read)
+    let_go(player, places, lots.read)
     copies = player.copies_of(0, player.epoch)
     others = [place for place in copies if place not in places]
     player.step(("tell", "q"))
@@ -66,7 +64,7 @@ def run_forgotten(player, places):
 def run_left_open(player, places):
     """What breaks a play in which the hosts at some places are never shut, and a get hears them at last."""
     lots = player.store.lots
-    replace(player, places, lots.keep)
+    let_go(player, places, lots.keep)
     copies = player.copies_of(0, player.epoch)
     others = [place for place in copies if place not in places]
     player.step(("tell", "p"))

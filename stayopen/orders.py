@@ -62,7 +62,8 @@ def surely(asks, one, other):
         return is_lot_ahead(zones(asks), lot_of(asks, one), lot_of(asks, other))
     if asks[one].word == "put":
         return one != other
-    return asks[other].word == "get" and asks[one].is_ahead(asks[other])
+    # No get of an order is ahead of its put.
+    return asks[one].is_ahead(asks[other])
 
 
 def tellable(asks):

@@ -11,9 +11,8 @@ from stayopen.player import need_player
 def two_gets(player, gap):
     """Steps of two gets, of a Gap of the newest epoch, behind which the answers fit no order."""
     need_player(player)
-    if not isinstance(gap, Gap) or not shows_guard(player, gap):
-        raise Clashing("gap")
-    if gap.word != "kept" or gap.epoch != player.epoch:
+    # In the newest epoch there are rows of the word kept alone.
+    if not isinstance(gap, Gap) or not shows_guard(player, gap) or gap.epoch != player.epoch:
         raise Clashing("gap")
     if len(player.store.cares) > 0:
         raise Clashing("cares")

@@ -65,13 +65,15 @@ class Careless(Looks):
     def test_errors(self):
         crossing = Quotas((1, ("a", "b")), (1, ("b", "c")), most=2)
         wide = Quotas((1, ("a",)), (1, ("b",)), (1, ("c",)), (1, ("d",)), (1, ("e",)), (1, ("f",)), most=5)
+        both = Quotas(*wide.pairs, *crossing.pairs, most=5)
         for value in (*STRANGE, Book({})):
             self.assertRaisesJust(BadQuota("quotas"), careless, value, None, None)
         for value in NO_LOTS:
             self.assertRaisesJust(BadLots("lots"), careless, crossing, value, None)
         for value in (*STRANGE, "backs", ("back",), ["back"], {"back": 1}, crossing):
             self.assertRaisesJust(BadCare(value), careless, crossing, Lots(1, 1), value)
-        self.assertRaisesJust(Clashing("nested"), careless, crossing, Lots(1, 1), "back")
+        for quotas in (crossing, both):
+            self.assertRaisesJust(Clashing("nested"), careless, quotas, Lots(1, 1), "back")
         for lots in (Lots(1, 1), Lots(5, 5), Lots(5, 2)):
             self.assertRaisesJust(TooMany("states", 64), careless, wide, lots, "back")
         self.assertRaisesJust(Clashing("lots"), careless, Quotas(most=3), Lots(2, 2), "back")

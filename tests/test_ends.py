@@ -11,7 +11,7 @@ from stayopen.player import Player
 from stayopen.rings import Ring
 from stayopen.store import Store
 from tests.helpers import STRANGE, Case
-from tests.scenes import ask, give, plain_player, settle
+from tests.scenes import ask, give, on_way, plain_player, settle
 from tests.slow_store import CLIENTS, SlowStore, drawn_step, drawn_store
 
 MOST_STATES = 30000
@@ -176,7 +176,69 @@ def drawn_play(seed, steps, **more):
     return player, slow
 
 
+def drawn_scene(seed):
+    """An ask of an elder epoch, behind which several epochs began; fences and letters come, stay or are lost."""
+    made = random.Random(seed)
+    ring = Ring(*[(10 * at, "a") for at in range(made.randint(4, 6))])
+    lots = Lots(*made.choice(((2, 2), (1, 2), (2, 1), (2, 2), (1, 1))))
+    cares = made.choice((("early",), ("early",), ("early", "stamp"), ("back", "early")))
+    store = Store(ring, Book({"": 0}, most=made.choice((2, 2, 3))), lots, cares)
+    player, slow = Player(store), SlowStore(store)
+
+    def attempt(step):
+        if slow.error_of(step) is None:
+            player.step(step)
+            slow.do(step)
+
+    def weather(words, chances):
+        for number in [number for number, letter in enumerate(slow.letters) if letter[0] and letter[3] in words]:
+            word = made.choices(("pass", "twin", "lose", "stay"), chances)[0]
+            if word != "stay":
+                attempt((word, number))
+
+    attempt(made.choice((("put", "p", 0, 1), ("get", "p", 0))))
+    weather(("hear",), (1, 0, 0, 6))
+    for _ in range(made.choice((1, 2, 3, 3, 4, 4))):
+        gone = made.choice(sorted(slow.rings[-1]) or [77])
+        attempt(made.choice((("begin", ("go", gone)), ("begin", ("go", gone)), ("begin", ("come", made.randint(1, 9), "a")))))
+    for _ in range(made.choice((1, 1, 2))):
+        weather(("fence",), (1, 1, 4, 5))
+        weather(("hear", "keep"), (2, 1, 1, 4))
+        weather(("heard", "kept", "refused"), (1, 0, 0, 5))
+    if made.random() < 0.3:
+        attempt(("tell", "p"))
+    # Mostly neither the newest epoch nor the eldest one will do.
+    attempt(("fall", made.choice(slow.copies(0, len(slow.rings) - 1) or [0])))
+    attempt(("fall", made.choice(slow.copies(0, 0))))
+    attempt(("fall", made.choice(sorted(slow.kept)) if made.random() < 0.3 else 77))
+    return player, slow
+
+
 class DrawnPlays(Case):
+    def test_drawn_scenes(self):
+        counts = {True: 0, False: 0}
+        through = 0
+        for seed in range(2500):
+            player, slow = drawn_scene(seed)
+            if slow.running("p") is not None:
+                told = self.look(player, slow, "p")
+                counts[told] += 1
+                passed = [step[1] for step in (ends(player, "p").steps if told else ()) if step[0] == "pass"]
+                through += any(slow.letters[number][3] == "fence" for number in passed if number < len(slow.letters))
+        self.assertGreater(min(counts.values()), 300)
+        self.assertGreater(through, 25)
+
+    def test_scenes_against_a_search(self):
+        counts = {True: 0, False: 0, None: 0}
+        for seed in range(220):
+            player, slow = drawn_scene(100000 + seed)
+            if slow.running("p") is not None:
+                wanted = can_end(slow, "p")
+                counts[wanted] += 1
+                self.assertIn(wanted, (None, bool(ends(player, "p"))))
+        self.assertGreater(min(counts[True], counts[False]), 40)
+        self.assertLess(counts[None], 20)
+
     def look(self, player, slow, client):
         """Whether the ask ends; its paper is looked at."""
         told, rows = ends(player, client), rows_model(slow, client)
@@ -309,6 +371,100 @@ class Edges(Case):
         self.assertTrue(shows_ends(player, "p", told))
         player.run(*told.steps)
         self.assertIsNotNone(player.history(0)[0].ended)
+
+    def middle_player(self, fences):
+        """A play in which only the epoch 2 of four will do, and only a fence to the host 10 leads there.
+
+        The client knows the epoch 1. Copies: 0 10, then 0 5, then 5 10, then 2 5; the hosts 0 and 2 have fallen.
+        """
+        player = plain_player(hosts=4, lots=Lots(2, 2), most=2, cares=("early",))
+        player.run(("get", "p", 0), ("begin", ("come", 5, "a")), ("tell", "p"), ("begin", ("go", 0)), ("begin", ("come", 2, "a")))
+        self.assertSame([player.copies_of(0, epoch) for epoch in range(4)], [(0, 10), (0, 5), (5, 10), (2, 5)])
+        player.run(("fall", 0), ("fall", 2))
+        for letter in list(player.letters()):
+            if letter.word == "fence" and (letter.receiver != 10 or letter.parts[0] not in fences):
+                player.step(("lose", letter.number))
+        return player
+
+    def test_only_a_letter_of_the_present_try_comes_to_a_host_of_its_epoch(self):
+        for fences in ((1,), (0, 1), (0, 1, 2)):
+            player = self.middle_player(fences)
+            told = ends(player, "p")
+            self.assertTrue(shows_ends(player, "p", told))
+            self.assertIs(bool(told), True)
+            player.run(*told.steps)
+            self.assertSame(player.answer(0).put, None)
+            # Where the letter to 10 is lost, the client would ask in the epoch 1, of which 10 is no copy.
+            player = self.middle_player(fences)
+            player.step(("lose", on_way(player, "hear", receiver=10)[0]))
+            rows = told_rows(rows_model(replayed(player), "p"))
+            self.assertSame(vars(ends(player, "p")), {"rows": rows})
+            self.assertSame({row[0] for row in rows}, {0, 1, 3})
+
+    def test_fences_that_are_no_help(self):
+        """A host that has closed a later epoch already tells that one, whatever fence comes."""
+        player = self.middle_player((1, 2))
+        player.step(("pass", on_way(player, "fence", receiver=10, parts=(2,))[0]))
+        self.assertSame(player.host(10).closed, 2)
+        rows = told_rows(rows_model(replayed(player), "p"))
+        self.assertSame({row[0] for row in rows}, {0, 1, 3})
+        self.assertSame(vars(ends(player, "p")), {"rows": rows})
+
+    def test_refused_letters_of_a_fallen_host(self):
+        """Only what a host told ahead of its fall leads to the epoch 2; another host tells the epoch 1."""
+        player = self.middle_player((1,))
+        player.step(("pass", on_way(player, "fence", receiver=10)[0]))
+        player.step(("pass", on_way(player, "hear", receiver=10)[0]))
+        player.step(("twin", on_way(player, "refused")[0]))
+        self.assertSame([player.asking("p").epoch, player.known("p")], [2, 2])
+        player = self.middle_player((1,))
+        player.step(("pass", on_way(player, "fence", receiver=10)[0]))
+        player.step(("pass", on_way(player, "hear", receiver=10)[0]))
+        told = ends(player, "p")
+        self.assertTrue(told)
+        self.assertSame(told.steps[0], ("pass", on_way(player, "refused")[0]))
+        player.run(("fall", 10))
+        self.assertSame({row[0] for row in ends(player, "p").rows}, {0, 1, 2, 3})
+        player.run(("lose", on_way(player, "refused")[0]))
+        self.assertSame({row[0] for row in ends(player, "p").rows}, {0, 1, 3})
+
+    def test_the_right_one_of_two_refused_letters(self):
+        """Both copies of the epoch 0 refuse: the one tells the epoch 1, the other one the epoch 2."""
+        player = plain_player(hosts=6, lots=Lots(2, 2), most=2, cares=("early",))
+        player.run(("get", "p", 0), ("begin", ("come", 5, "a")), ("begin", ("go", 0)), ("begin", ("come", 2, "a")))
+        for place, epoch in ((0, 0), (10, 1)):
+            player.step(("pass", on_way(player, "fence", receiver=place, parts=(epoch,))[0]))
+            player.step(("pass", on_way(player, "hear", receiver=place)[0]))
+        self.assertSame([player.letter(number).parts[2] for number in on_way(player, "refused")], [1, 2])
+        for letter in list(player.letters()):
+            if letter.word == "fence":
+                player.step(("lose", letter.number))
+        player.run(("fall", 0), ("fall", 2))
+        told = ends(player, "p")
+        self.assertSame(told.steps[0], ("pass", on_way(player, "refused")[1]))
+        self.assertTrue(shows_ends(player, "p", told))
+
+    def test_the_right_host_to_refuse(self):
+        """The first host that is asked has no such fence on the way, or has closed too much."""
+        for fences in ((), (0,), (1, 2)):
+            player = plain_player(hosts=6, lots=Lots(2, 2), most=3, cares=("early",))
+            player.run(("get", "p", 0), ("begin", ("go", 20)), ("begin", ("go", 30)), ("begin", ("go", 40)))
+            # Copies: 0 10 20, then 0 10 30, then 0 10 40, then 0 10 50.
+            for letter in list(player.letters()):
+                if letter.word == "fence" and (letter.receiver, *letter.parts) != (10, 1) and not (
+                        letter.receiver == 0 and letter.parts[0] in fences):
+                    player.step(("lose", letter.number))
+            if fences == (1, 2):
+                player.step(("pass", on_way(player, "fence", receiver=0, parts=(2,))[0]))
+            player.run(("fall", 20), ("fall", 30), ("fall", 50))
+            told = ends(player, "p")
+            self.assertTrue(told)
+            self.assertTrue(shows_ends(player, "p", told))
+            player.step(("fall", 0))
+            told = ends(player, "p")
+            self.assertTrue(told)
+            self.assertTrue(shows_ends(player, "p", told))
+            self.assertSame(max(step[0] == "again" for step in told.steps), False)
 
     def test_the_client_knows_a_newer_epoch(self):
         """The round 2 that the present answers lead to is in the elder epoch; the client knows a newer one."""

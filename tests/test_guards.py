@@ -271,6 +271,9 @@ class TwoGets(Case):
         player.step(("fall", 20))
         self.assertRaisesJust(Clashing("fallen"), two_gets, player, gap)
         self.assertRaisesJust(Clashing("gap"), two_gets, player, None)
+        # A right Guard is no Gap.
+        self.assertTrue(guard(fine_player()))
+        self.assertRaisesJust(Clashing("gap"), two_gets, fine_player(), guard(fine_player()))
         for care in Store.CARES:
             careless = Player(Store(player.store.ring, player.store.book, player.store.lots, (care,)))
             careless.run(*player.deeds)

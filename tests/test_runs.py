@@ -150,11 +150,14 @@ class NestedBreaks(Looks):
     def test_errors(self):
         crossing = Quotas((1, ("a", "b")), (1, ("b", "c")), most=2)
         wide = Quotas((1, ("a",)), (1, ("b",)), (1, ("c",)), (1, ("d",)), (1, ("e",)), (1, ("f",)), most=5)
+        both = Quotas(*wide.pairs, *crossing.pairs, most=5)
         for value in (*STRANGE, PLAIN):
             self.assertRaisesJust(BadQuota("quotas"), nested_break, value, None)
         for value in NO_LOTS:
             self.assertRaisesJust(BadLots("lots"), nested_break, crossing, value)
-        self.assertRaisesJust(Clashing("nested"), nested_break, crossing, Lots(5, 5))
+        self.assertRaisesJust(TooMany("states", 64), both.as_book)
+        for quotas in (crossing, both):
+            self.assertRaisesJust(Clashing("nested"), nested_break, quotas, Lots(5, 5))
         # The book is made ahead of the question whether the lots are right.
         self.assertSame([is_nested(wide), room(wide)], [True, 5])
         for lots in (Lots(5, 5), Lots(1, 1)):
