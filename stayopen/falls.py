@@ -45,14 +45,11 @@ def stopped(book, ring, lots, *fallen):
 def bears_falls(book, ring, lots):
     """The Falls of a ring: how many hosts may fall, whichever they are."""
     need_told(book, ring, lots)
-    fewest = None
-    key = 0
-    for first, _, places in arcs(book, ring):
-        if fewest is None or len(places) < len(fewest):
-            fewest = places
-            key = first
-    many = max(len(fewest) - needed(lots), -1)
-    return Falls(many, fewest[:many + 1], key)
+    rows = arcs(book, ring)
+    fewest = min([len(places) for _, _, places in rows])
+    key, _, places = [row for row in rows if len(row[2]) == fewest][0]
+    many = max(fewest - needed(lots), -1)
+    return Falls(many, places[:many + 1], key)
 
 
 def shows_falls(book, ring, lots, value):

@@ -160,6 +160,11 @@ class Edges(Case):
         for work in (order_of, tellable):
             self.assertTrue(work(asks) == work(tuple(asks)))
             self.assertTrue(asks == FINE)
+        told, indexes = order_of(asks), [1, 2, 0, 3]
+        paper = Order(indexes)
+        asks.clear()
+        indexes.append(4)
+        self.assertSame([told.indexes, paper.indexes], [(1, 2, 0, 3), [1, 2, 0, 3]])
 
 
 class LongHistories(Case):

@@ -204,6 +204,14 @@ class Histories(Case):
         self.assertSame([history_page([]), read_history("history")], ["history", []])
         self.assertSame(history_page([ASK_LINES["put p 0 4"], ASK_LINES["get q 9 -"]]), "history\nput p 0 4\nget q 9 -")
 
+    def test_the_list_belongs_to_the_caller(self):
+        asks = [ASK_LINES["put p 0 4"]]
+        page = history_page(asks)
+        told = read_history(page)
+        told.append(None)
+        asks.clear()
+        self.assertSame([len(read_history(page)), page], [1, "history\nput p 0 4"])
+
     def test_a_list_of_asks_may_be_no_history(self):
         self.assertTrue(read_history("history\nget q 0 1 7") == [Ask("q", "get", 0, 1, 7)])
 
@@ -254,7 +262,7 @@ class Plays(Case):
         for cares in ((), ("back",), ("back", "early", "names", "number", "older", "stamp")):
             player = plain_player(cares=cares)
             self.assertTrue(read_play(play_page(player)) == player)
-        for line, word in (("cares ", 1), ("cares back back", 2), ("cares stamp back", 2), ("cares zzz back", 1),
+        for line, word in (("cares ", 1), ("cares back back", 2), ("cares stamp back", 2), ("cares back stamp early", 3), ("cares zzz back", 1),
                            ("cares back zzz early", 2), ("care", 0), ("cares back early back", 3), ("", 0)):
             self.assertRaisesJust(BadText(4, word), read_play, page_with(4, line))
 
