@@ -1,5 +1,6 @@
 """The lines of a desk: their words, and what these tell."""
 
+from stayopen.book_texts import read_book_text
 from stayopen.books import Book
 from stayopen.errors import BadCommand, BadText
 from stayopen.line_words import name_at, need_end, number_within, place_at
@@ -50,7 +51,8 @@ def told_behind(word, words, line):
 def setting_in(word, line):
     """The book, the ring or the lots of a line."""
     if word == "book":
-        return Book.from_text(line)
+        states, most = read_book_text(line)
+        return Book(*states, most=most)
     return read_ring(line) if word == "ring" else read_lots(line)
 
 

@@ -151,6 +151,22 @@ class Names(unittest.TestCase):
             if node.name in all_methods and node.decorator_list and not is_decorated(node, "property"):
                 self.assertNotIn(node.name, stored, place)
 
+    def test_no_method_is_read_off_a_class(self):
+        """Some names are methods of one class and attributes of another one, which only then may be."""
+        classes = {node.name: {method.name for method in methods(node)} for _, node in nodes(ast.ClassDef)}
+        for place, node in nodes(ast.Attribute):
+            if isinstance(node.value, ast.Name) and node.value.id in classes:
+                self.assertNotIn(node.attr, classes[node.value.id], place)
+
+    def test_stars_in_calls(self):
+        """Behind the star of a call stand names, and attributes off a name that are no properties."""
+        for place, node in nodes(ast.Call):
+            for told in (part.value for part in node.args if isinstance(part, ast.Starred)):
+                if isinstance(told, ast.Attribute):
+                    self.assertNotIn(told.attr, properties(False) | properties(True), place)
+                    told = told.value
+                self.assertIsInstance(told, ast.Name, place)
+
     def test_names_that_are_not_used(self):
         for place, node in nodes(ast.Name, ast.arg, ast.FunctionDef, ast.ClassDef):
             if isinstance(node, ast.Name):
