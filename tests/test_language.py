@@ -160,10 +160,11 @@ class Names(unittest.TestCase):
 
     def test_stars_in_calls(self):
         """Behind the star of a call stand names, and attributes off a name that are no properties."""
+        all_properties = properties(False) | properties(True)
         for place, node in nodes(ast.Call):
             for told in (part.value for part in node.args if isinstance(part, ast.Starred)):
                 if isinstance(told, ast.Attribute):
-                    self.assertNotIn(told.attr, properties(False) | properties(True), place)
+                    self.assertNotIn(told.attr, all_properties, place)
                     told = told.value
                 self.assertIsInstance(told, ast.Name, place)
 
