@@ -40,3 +40,11 @@ def arcs_of(book, ring, places):
     for first, last in stretches_to(places):
         rows.append((first, last, places_taken(states, book.most, hosts_from(hosts, first))))
     return rows
+
+
+def arcs_of_both(book, one, other):
+    """Rows (first, last, copies, copies) of the copies on two rings, of stretches that end at a host of either."""
+    places = sorted(set([place for place, _ in [*one, *other]]))
+    ahead = arcs_of(book, one, places)
+    behind = arcs_of(book, other, places)
+    return [(ahead[at][0], ahead[at][1], ahead[at][2], behind[at][2]) for at in range(len(ahead))]

@@ -1,6 +1,6 @@
 """What fallen hosts stop of the settling of a change."""
 
-from stayopen.arcs import arcs_of
+from stayopen.arcs import arcs_of_both
 from stayopen.errors import NoHost
 from stayopen.lots import need_lots
 from stayopen.needs import need_book, need_ring
@@ -16,13 +16,9 @@ def blocked(book, one, other, lots, *fallen):
     for place in fallen:
         if place not in one and place not in other:
             raise NoHost(place)
-    places = sorted(set([place for place, _ in [*one, *other]]))
-    ahead = arcs_of(book, one, places)
-    behind = arcs_of(book, other, places)
     rows = []
-    for at in range(len(ahead)):
-        first, last, copies = ahead[at]
-        rows.append((first, last, what_stops(copies, behind[at][2], lots, fallen)))
+    for first, last, ahead, behind in arcs_of_both(book, one, other):
+        rows.append((first, last, what_stops(ahead, behind, lots, fallen)))
     return tuple([row for row in joined(rows) if row[2] is not None])
 
 

@@ -1,6 +1,6 @@
 """Which keys move from one ring to another."""
 
-from stayopen.arcs import arcs_of
+from stayopen.arcs import arcs_of_both
 from stayopen.needs import need_book, need_ring
 from stayopen.stretches import joined
 
@@ -31,13 +31,8 @@ def changed_arcs(book, one, other):
     need_book(book, "book")
     need_ring(one, "one")
     need_ring(other, "other")
-    places = sorted(set([place for place, _ in [*one, *other]]))
-    ahead = arcs_of(book, one, places)
-    behind = arcs_of(book, other, places)
     rows = []
-    for at in range(len(ahead)):
-        first, last, ours = ahead[at]
-        theirs = behind[at][2]
+    for first, last, ours, theirs in arcs_of_both(book, one, other):
         gone = tuple(sorted([place for place in ours if place not in theirs]))
         new = tuple(sorted([place for place in theirs if place not in ours]))
         rows.append((first, last, (gone, new)))

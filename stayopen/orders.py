@@ -121,12 +121,14 @@ def indexes_in_order(asks):
 
 def is_lot_ahead(told, one, other):
     """Whether a row of lots leads from one lot to another one, each surely ahead of the next one."""
-    bound = {lot: least for lot, least, _ in told}[one]
+    begins = {lot: greatest for lot, _, greatest in told}
+    ends = {lot: least for lot, least, _ in told}
+    bound = ends[one]
     while True:
         # All lots with a begin above the bound are reached; one of them can have a lesser end.
-        further = min([least for _, least, greatest in told if greatest > bound] + [bound])
+        further = min([bound] + [least for _, least, greatest in told if greatest > bound])
         if further == bound:
-            return {lot: greatest for lot, _, greatest in told}[other] > bound
+            return begins[other] > bound
         bound = further
 
 

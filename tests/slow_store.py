@@ -303,6 +303,14 @@ class SlowStore:
                     self.sweeps(epoch)
 
 
+def replayed(player):
+    """A slow store behind the same steps."""
+    slow = SlowStore(player.store)
+    for step in player.deeds:
+        slow.do(step)
+    return slow
+
+
 def plain(value):
     """A value with each Kept in it as a triple."""
     if isinstance(value, tuple):

@@ -12,7 +12,7 @@ from stayopen.rings import Ring
 from stayopen.store import Store
 from tests.helpers import STRANGE, Case
 from tests.scenes import ask, give, on_way, plain_player, settle
-from tests.slow_store import CLIENTS, SlowStore, drawn_step, drawn_store
+from tests.slow_store import CLIENTS, SlowStore, drawn_step, drawn_store, replayed
 
 MOST_STATES = 30000
 
@@ -581,13 +581,6 @@ class Looker(Case):
         ask(done, "get", "s", 0)
         self.assertRaisesJust(Clashing("idle"), ends, done, client="s")
         self.assertRaisesJust(NoClient("p"), shows_ends, client="p", player=Player(Store(Ring(), Book({}), Lots(1, 1))), value=1)
-
-
-def replayed(player):
-    slow = SlowStore(player.store)
-    for step in player.deeds:
-        slow.do(step)
-    return slow
 
 
 if __name__ == "__main__":

@@ -13,7 +13,7 @@ from stayopen.store import Store
 from stayopen.two_gets import two_gets
 from tests.helpers import STRANGE, Case
 from tests.scenes import ask, plain_player, settle
-from tests.slow_store import SlowStore, drawn_step, drawn_store
+from tests.slow_store import SlowStore, drawn_step, drawn_store, replayed
 
 
 def rows_model(slow):
@@ -325,13 +325,6 @@ def three_epochs():
     settle(player, fence=(10, 30))
     player.run(("begin", ("turn", 30, "b")))
     return player
-
-
-def replayed(player):
-    slow = SlowStore(player.store)
-    for step in player.deeds:
-        slow.do(step)
-    return slow
 
 
 if __name__ == "__main__":

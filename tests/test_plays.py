@@ -8,7 +8,7 @@ from stayopen.histories import zones
 from stayopen.lots import Lots
 from stayopen.player import Player
 from tests.helpers import Case
-from tests.slow_store import (KEYS, SlowStore, drawn_step, drawn_store, history_of_slow, plain, seen_of_player,
+from tests.slow_store import (KEYS, SlowStore, drawn_step, drawn_store, history_of_slow, plain, replayed, seen_of_player,
                               seen_of_slow)
 
 
@@ -115,13 +115,6 @@ class Plays(Case):
                     self.assertRaisesJust(error, player.run, *steps)
                     self.assertSame(seen_of_player(player), seen)
                     self.assertTrue(player == twin)
-
-
-def replayed(player):
-    slow = SlowStore(player.store)
-    for step in player.deeds:
-        slow.do(step)
-    return slow
 
 
 def fits_an_order(asks):
