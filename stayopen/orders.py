@@ -68,7 +68,6 @@ def surely(asks, one, other):
 
 def tellable(asks):
     """The puts, or None, that a further get behind all asks can tell so that there is an order."""
-    need_asks(asks)
     told = zones(asks)
     if len(gets_ahead_of_puts(asks)) > 0 or lots_at_odds(told) is not None:
         return ()
