@@ -280,10 +280,10 @@ class Chances(Case):
         for many, most in ((2, 100), (1, 100), (0, 100), (100, 100), (3, 32), (29, 32), (4, 20), (7, 14)):
             ring = Ring(*[(at, "a") for at in range(most)])
             self.assertSame(all_go(Book({"": 0}, most=1), ring, Lots(1, 1), many), (0, 1) if many else (1, 1))
-        for many, most in ((3, 33), (97, 100), (3, 100), (4, 21), (6, 18), (50, 100)):
+        for many, most in ((6, 15), (9, 15), (3, 33), (97, 100), (3, 100), (4, 21), (50, 100)):
             ring = Ring(*[(at, "a") for at in range(most)])
             self.assertRaisesJust(TooMany("lots", 5000), all_go, PLAIN, ring, Lots(1, 1), many)
-        # There are 4,960 lots of 3 of 32 hosts, and 5,456 of 3 of 33; no numbers have just 5,000 or 5,001.
+        # There are 4,960 lots of 3 of 32 hosts, and 5,005 of 6 of 15; no numbers have just 5,000 or 5,001.
         self.assertSame(all_go(PLAIN, Ring(), Lots(1, 1), 0), (0, 1))
 
     def test_errors(self):
