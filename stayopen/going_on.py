@@ -102,7 +102,8 @@ def ways_on(play, ask, known):
     nodes = [first]
     while len(nodes) > 0:
         further = []
-        for node in nodes:
+        # The names nodes and further stand for one list at times: a copy is walked.
+        for node in list(nodes):
             for other in nodes_next(play, fences, ask, known, node):
                 if other not in ways:
                     ways[other] = node

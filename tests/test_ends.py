@@ -523,6 +523,112 @@ class Edges(Case):
         self.assertTrue(shows_ends(player, "p", told))
 
 
+class SeveralEpochs(Case):
+    """Asks that go on through several epochs; no begin is left out of waiting."""
+
+    def sliding_player(self, *first, lots=None, cares=(), most=2, many=5):
+        """An ask of the epoch 0, behind which many epochs began and settled, a host going with each of them.
+
+        The first copy in the epoch n is the host 10 n, the others come behind it. The host 10 n has closed n, but
+        no host has closed the newest epoch.
+        """
+        player = plain_player(hosts=many + 3, most=most, lots=Lots(2, 2) if lots is None else lots, cares=cares)
+        player.run(*first)
+        for number in range(many):
+            player.step(("begin", ("go", 10 * number)))
+            settle(player)
+        for epoch in range(many + 1):
+            self.assertSame(player.copies_of(0, epoch), tuple(10 * (epoch + at) for at in range(most)))
+            self.assertSame(player.host(10 * epoch).closed, min(epoch, many - 1))
+        self.assertIs(player.is_settled, True)
+        return player
+
+    def look_at_rows(self, player, wanted):
+        """The ask of p is stuck with just these rows; no fewer, no others and no steps show it."""
+        slow = replayed(player)
+        self.assertSame(told_rows(rows_model(slow, "p")), wanted)
+        self.assertIs(can_end(slow, "p"), False)
+        told = ends(player, "p")
+        self.assertIs(type(told), Stuck)
+        self.assertSame(told.rows, wanted)
+        self.assertIs(shows_ends(player, "p", told), True)
+        for at in range(len(wanted)):
+            self.assertIs(shows_ends(player, "p", Stuck((*wanted[:at], *wanted[at + 1:]))), False)
+        for word in (("tell", "p"), ("again", "p")):
+            self.assertIs(shows_ends(player, "p", Ends((word,))), False)
+
+    def epochs_of(self, player):
+        """The epochs that the ask of p goes through by the steps of its Ends, which are done."""
+        told = ends(player, "p")
+        self.assertIs(type(told), Ends)
+        self.assertIs(shows_ends(player, "p", told), True)
+        self.assertIs(shows_ends(player, "p", Ends(told.steps[:-1])), False)
+        epochs = [player.asking("p").epoch]
+        for step in told.steps:
+            self.assertTrue(player.asking("p"))
+            player.step(step)
+            if player.asking("p") and player.asking("p").epoch != epochs[-1]:
+                epochs.append(player.asking("p").epoch)
+        self.assertFalse(player.asking("p"))
+        return epochs
+
+    def test_rows_behind_several_refusals(self):
+        player = self.sliding_player(("get", "p", 0))
+        player.step(("fall", 60))
+        # 0 and 10 tell 1 and 2; from there on 20 and 30 tell 3 and 4.
+        self.look_at_rows(player, ((0, 1, ()), (0, 1, ()), (1, 1, ()), (2, 1, ()), (3, 1, ()), (4, 1, ()), (5, 1, (50,))))
+        player.run(("fall", 10), ("fall", 30))
+        # Without 10 and 30 the epoch 1 is told by 0, the epoch 3 by 20 in the epoch 1: neither tells 2 or 4.
+        self.look_at_rows(player, ((0, 1, ()), (0, 1, ()), (1, 1, ()), (3, 1, ()), (5, 1, (50,))))
+        player.step(("fall", 0))
+        self.look_at_rows(player, ((0, 1, ()), (0, 1, ()), (5, 1, (50,))))
+
+    def test_rows_of_an_ask_that_has_a_stamp(self):
+        for cares, stage in (((), 2), (("stamp",), 1)):
+            player = self.sliding_player(("put", "p", 0, 7), ("pass", 0), ("pass", 1), ("pass", 2), ("pass", 3), cares=cares)
+            self.assertSame(player.asking("p").stage, 2)
+            player.step(("fall", 60))
+            self.look_at_rows(player, ((0, 2, ()), *[(epoch, stage, ()) for epoch in range(5)], (5, stage, (50,))))
+
+    def test_the_round_two_behind_several_refusals(self):
+        """One host is enough to be heard in the epoch 5, but not to keep; its round 2 has a row of its own."""
+        player = self.sliding_player(("put", "p", 0, 7), lots=Lots(1, 2))
+        player.run(("fall", 60), ("fall", 10), ("fall", 30))
+        self.look_at_rows(player, ((0, 1, ()), (0, 1, ()), (1, 1, ()), (3, 1, ()), (5, 1, (50,)), (5, 2, (50,))))
+
+    def test_steps_through_several_epochs(self):
+        """The newest epoch lacks a host; the one ahead of it is reached by refusals alone, one behind the other."""
+        for word in (("get", "p", 0), ("put", "p", 0, 7)):
+            # Where some hosts have fallen there is one way alone.
+            for fallen, wanted in (((), None), ((20,), None), ((10, 30), [0, 1, 3, 5]), ((0, 20, 40), [0, 2, 4, 5])):
+                player = self.sliding_player(word)
+                player.run(("begin", ("go", 50)), ("fall", 70), *[("fall", place) for place in fallen])
+                self.assertSame([player.epoch, player.copies_of(0, 6)], [6, (60, 70)])
+                self.assertIs(can_end(replayed(player), "p"), True)
+                epochs = self.epochs_of(player)
+                self.assertSame([epochs[0], epochs[-1]], [0, 5])
+                self.assertSame(epochs, sorted(set(epochs)) if wanted is None else wanted)
+
+    def test_one_host_less_stops_the_way(self):
+        player = self.sliding_player(("get", "p", 0))
+        player.run(("begin", ("go", 50)), ("fall", 70), ("fall", 10), ("fall", 20))
+        # 0 alone tells an epoch, the epoch 1, and no copy of that one stands.
+        self.look_at_rows(player, ((0, 1, ()), (0, 1, ()), (1, 1, ()), (6, 1, (60,))))
+
+    def test_each_epoch_is_told_by_the_one_ahead_alone(self):
+        for many in (1, 2, 5, 12, 25):
+            player = self.sliding_player(("get", "p", 0), lots=Lots(1, 1), most=1, many=many)
+            twin = player.twin()
+            player.step(("fall", 10 * many))
+            rows = [(epoch, 1, ()) for epoch in range(many + 1)]
+            self.look_at_rows(player, (rows[0], *rows))
+            # A host that has fallen tells nothing: the epochs behind it are not reached but the newest one.
+            player.step(("fall", 10 * (many // 2)))
+            self.look_at_rows(player, (rows[0], *rows[:many // 2 + 1], *rows[max(many, many // 2 + 1):]))
+            twin.run(("begin", ("go", 10 * many)), ("fall", 10 * many + 10))
+            self.assertSame(self.epochs_of(twin), list(range(many + 1)))
+
+
 class Looker(Case):
     def test_steps_otherwise(self):
         player = plain_player(hosts=4, place=1)

@@ -13,6 +13,7 @@ METHODS = set("append clear copy count endswith extend find get index insert isd
               "remove replace reverse rfind split startswith strip update upper values bit_length".split())
 SPECIAL = set("__init__ __eq__ __repr__ __str__ __len__ __enter__ __exit__ __iter__ __bool__ __contains__ __getitem__ "
               "__add__ __sub__ __and__ __rshift__".split())
+CHANGING = set("append clear extend insert pop remove reverse setdefault sort update".split())
 NO_ATTRIBUTES = set("items keys values pop update append clear extend insert remove reverse setdefault sort args encode "
                     "decode hex fromhex format mro elements open input law register".split())
 NO_NAMES = set("mro elements open input law attrgetter breakpoint compile copyright delattr dir eval exec exit gc getattr "
@@ -60,6 +61,72 @@ def properties(with_setter):
         set_too = {name for name in own for method in methods(told) if is_decorated(method, f"{name}.setter")}
         found |= set_too if with_setter else own - set_too
     return found
+
+
+def lists_of(told):
+    """The names and the fields that a value may stand for; of what goes over others, those that it goes over."""
+    if isinstance(told, ast.Name):
+        return [told.id]
+    if isinstance(told, ast.Attribute):
+        return ["." + told.attr]
+    if isinstance(told, (ast.Subscript, ast.Starred)):
+        return lists_of(told.value)
+    if isinstance(told, ast.IfExp):
+        return lists_of(told.body) + lists_of(told.orelse)
+    if isinstance(told, ast.BoolOp):
+        return [name for part in told.values for name in lists_of(part)]
+    if isinstance(told, ast.Call) and ast.unparse(told.func) in ("enumerate", "zip", "reversed"):
+        return [name for part in told.args for name in lists_of(part)]
+    if isinstance(told, ast.Call) and isinstance(told.func, ast.Attribute) and told.func.attr in ("items", "keys", "values"):
+        return lists_of(told.func.value)
+    return []
+
+
+def alike_names(function):
+    """Pairs of names and fields of a function, the one of which is assigned what the other one stands for."""
+    pairs = []
+    for node in ast.walk(function):
+        if isinstance(node, ast.Assign):
+            for target in node.targets:
+                is_pair = isinstance(target, ast.Tuple) and isinstance(node.value, ast.Tuple)
+                for one, other in zip(target.elts, node.value.elts) if is_pair else [(target, node.value)]:
+                    pairs += [(left, right) for left in lists_of(one) for right in lists_of(other)]
+    return pairs
+
+
+def changed_lists(part):
+    """The names and the fields that a part of a function changes, each with its row."""
+    for node in ast.walk(part):
+        told = None
+        if isinstance(node, ast.Call) and isinstance(node.func, ast.Attribute) and node.func.attr in CHANGING:
+            told = node.func.value
+        elif isinstance(node, ast.Subscript) and not isinstance(node.ctx, ast.Load):
+            told = node.value
+        elif isinstance(node, ast.AugAssign):
+            told = node.target
+        for name in lists_of(told):
+            yield name, node.lineno
+
+
+def rows_changed_in_their_loops(tree):
+    """The rows that change what a loop or a comprehension around them walks, by whatever name it is called there."""
+    found = set()
+    for function in ast.walk(tree):
+        if not isinstance(function, ast.FunctionDef):
+            continue
+        pairs = alike_names(function)
+        for node in ast.walk(function):
+            parts, walked = [], set()
+            if isinstance(node, ast.For):
+                parts, walked = node.body, set(lists_of(node.iter))
+            elif isinstance(node, (ast.ListComp, ast.DictComp, ast.SetComp)):
+                parts, walked = [node], {name for told in node.generators for name in lists_of(told.iter)}
+            for _ in pairs:
+                for pair in pairs:
+                    if walked & set(pair):
+                        walked |= set(pair)
+            found |= {row for part in parts for name, row in changed_lists(part) if name in walked}
+    return sorted(found)
 
 
 class Files(unittest.TestCase):
@@ -278,6 +345,27 @@ class Statements(unittest.TestCase):
                     word = node.func.attr if isinstance(node.func, ast.Attribute) else ast.unparse(node.func)
                     if word in ("zip", "enumerate", "reversed", "items", "keys", "values"):
                         self.assertIn(id(node), fine, f"{name}:{node.lineno}")
+
+    def test_what_a_loop_walks_is_not_changed_in_it(self):
+        for name, text in files():
+            self.assertEqual(rows_changed_in_their_loops(ast.parse(text)), [], name)
+
+    def test_what_is_looked_for_in_loops(self):
+        """A change by the same name, by another name, by a field, by a choice, and of what a zip or a view walks."""
+        for ahead, walked, change, is_found in (
+                ("", "rows", "rows.append(row)", True), ("", "list(rows)", "rows.append(row)", False),
+                ("", "rows", "other.append(row)", False), ("rows = other", "rows", "other.append(row)", True),
+                ("rows = other", "list(rows)", "other.append(row)", False), ("other = rows", "rows", "other[0] = row", True),
+                ("rows, third = other, None", "rows", "other += [row]", True), ("", "self.rows", "other.rows.pop()", True),
+                ("rows = self.rows", "rows", "del other.rows[0]", True), ("", "rows if row else other", "other.clear()", True),
+                ("rows = third or other", "rows", "other.clear()", True), ("", "zip(rows, other)", "other.clear()", True),
+                ("third = other\n    rows = third", "rows", "other.clear()", True), ("", "rows.items()", "rows[1] = 2", True),
+                ("", "sorted(rows)", "rows.clear()", False)):
+            text = f"def work(self, rows, other, row, third):\n    {ahead or 'pass'}\n    for row in {walked}:\n        {change}\n"
+            rows = rows_changed_in_their_loops(ast.parse(text))
+            self.assertEqual(rows, [text.count("\n")] if is_found else [], text)
+        further = "while rows:\n        third = []\n        for row in rows:\n            third.append(row)\n        rows = third"
+        self.assertEqual(rows_changed_in_their_loops(ast.parse(f"def work(rows):\n    {further}\n")), [5])
 
     def test_equality(self):
         """__eq__ asks first whether the other object is of its own class."""
